@@ -1,0 +1,1 @@
+"""Wishroads: plans of least price, or papers that there are none."""
