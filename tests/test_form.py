@@ -11,6 +11,10 @@ INTERFACE = {
     "tasks": "is_task is_plan facts open_deeds done run price",
     "searching": "states_met dead_ends least_price price_left first_plan plan_count cheapest_plans always_done"
                  " must_deeds greatest_price",
+    "loosened": "had first_prices first_price",
+    "patterns": "loosened_price pattern_price shared_bound",
+    "cuts": "cuts cut_bound shows_cuts",
+    "pairs": "apart shows_apart groups",
     "worlds": "task_of sample",
 }
 

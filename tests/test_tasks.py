@@ -6,14 +6,11 @@ import unittest
 import slow
 from wishroads.errors import BadDeed, BadState, BadTask
 from wishroads.tasks import done, facts, is_plan, is_task, open_deeds, price, run
+from wrong import OTHERS, LikeAll
 
 GO = ("go", ("a",), (), ("b",), ("a",), 2)
 TASK = ((GO,), ("a",), ("b",))
 STAYS = ("stay", (), (), (), (), 1)
-
-# Values that are neither tuples nor strings nor integers of the kinds asked for.
-OTHERS = (None, True, False, 0, 1, 2.0, "", "abc", b"abc", [], {}, set(), object(), [1, [2]], (), ("a", "b", "c"),
-          ((),), ([],), ({},), ((), (), (), ()), [(), (), ()], NotImplemented, int, lambda: 0)
 
 # A task with something in each row: what is asked of deeds that need, bar, add and strike several facts.
 DEEDS = (
@@ -24,13 +21,6 @@ DEEDS = (
     ("swap", ("w",), ("x",), ("x", "y"), ("w", "z"), 5),
 )
 FULL = (DEEDS, ("w", "z"), ("x",))
-
-
-class LikeAll:
-    """A value that is said to be equal to any other."""
-
-    def __eq__(self, other):
-        return True
 
 
 def task_with(deed):

@@ -75,6 +75,12 @@ def least_prices(starts, roads):
     return reckoned
 
 
+def price_on(chart, start, roads):
+    """The least price on the roads from start to the wish, None without a way."""
+    prices = least_prices([start], roads)
+    return min([prices[number] for number in prices if chart.has_wish(number)], default=None)
+
+
 def turned(roads):
     """The same roads, each gone the other way."""
     back = {number: [] for number in roads}

@@ -1,6 +1,6 @@
 """What comes of searching the states of a task (point 4)."""
 
-from wishroads.charts import Chart, cheapest_roads, least_prices, prices_left
+from wishroads.charts import Chart, cheapest_roads, least_prices, price_on, prices_left
 from wishroads.errors import TooMany
 from wishroads.tasks import check_state, check_task
 
@@ -18,8 +18,7 @@ def price_left(task, state):
     chart = Chart(task)
     check_state(task, state)
     start = chart.number_of(state)
-    prices = least_prices([start], chart.roads(start))
-    return min([prices[number] for number in prices if chart.has_wish(number)], default=None)
+    return price_on(chart, start, chart.roads(start))
 
 
 def least_price(task):

@@ -13,6 +13,11 @@ def is_integer(value):
     return isinstance(value, int) and not isinstance(value, bool)
 
 
+def is_number(value, least, most):
+    """Whether any value is an integer from least to most."""
+    return is_integer(value) and least <= value <= most
+
+
 def is_sign_row(value):
     """Whether value is a string of 1 to 40 signs, as facts and names of deeds are."""
     return isinstance(value, str) and 1 <= len(value) <= MOST_SIGNS
@@ -39,7 +44,7 @@ def is_deed(value):
         return False
     if some_stand(needs, bars) or some_stand(adds, strikes):
         return False
-    return is_integer(cost) and 1 <= cost <= MOST_PRICE
+    return is_number(cost, 1, MOST_PRICE)
 
 
 def all_stand(wanted, state):
@@ -98,9 +103,14 @@ def facts(task):
     return told_facts(task)
 
 
+def is_facts_among(value, signs):
+    """Whether any value is facts, all of them among the signs."""
+    return is_facts(value) and all_stand(value, signs)
+
+
 def check_state(task, state):
     """Raise BadState for a value that is no state of the task."""
-    if not is_facts(state) or not all_stand(state, told_facts(task)):
+    if not is_facts_among(state, told_facts(task)):
         raise BadState()
 
 
