@@ -15,6 +15,10 @@ INTERFACE = {
     "patterns": "loosened_price pattern_price shared_bound",
     "cuts": "cuts cut_bound shows_cuts",
     "pairs": "apart shows_apart groups",
+    "weights": "weight_bound lost_most",
+    "papers": "never_paper bound_paper solved shows_never shows_bound shows_solved",
+    "plans": "links shortened order_count mended safe_states",
+    "plays": "Play",
     "worlds": "task_of sample",
 }
 

@@ -12,6 +12,13 @@ class LikeAll:
 OTHERS = (None, True, False, 0, 1, 2.0, "", "abc", b"abc", [], {}, set(), object(), [1, [2]], (), ("a", "b", "c"),
           ((),), ([],), ({},), ((), (), (), ()), [(), (), ()], NotImplemented, int, lambda: 0, LikeAll())
 
+WRONG_DEEDS = (("b", (), (), (), (), 1), ("a", (), (), (), (), 1))
+
+# Values that are no tasks, each with the word that tells what is wrong first.
+WRONG_TASKS = ((None, "form"), ([], "form"), (((), ()), "form"), (((), (), (), ()), "form"), (([], (), ()), "deeds"),
+               ((((),), (), ()), "deeds"), ((WRONG_DEEDS, [], ()), "names"), (((), [], None), "begin"),
+               (((), (), ("b", "a")), "wish"), (((), tuple("abcdefghijk"), ()), "facts"))
+
 # Values that are no facts of any task without the fact "none"; "a" and "b" may be some of it.
 NO_FACTS = (None, True, False, 0, 1, 2.0, "", "a", b"a", [], ["a"], {}, {"a"}, {"a": 1}, object(), LikeAll(),
             ("none",), ("a", "none"), ("b", "a"), ("a", "a"), ("",), ("f" * 41,), (1,), (True,), (None,), (b"a",),

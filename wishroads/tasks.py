@@ -119,10 +119,15 @@ def can_be_done(deed, state):
     return all_stand(deed[1], state) and not some_stand(deed[2], state)
 
 
+def altered(row, gone, come):
+    """The facts of the row without those that are gone, with those that come."""
+    kept = [fact for fact in row if fact not in gone]
+    return tuple(sorted(set([*kept, *come])))
+
+
 def state_behind(deed, state):
     """The state behind a deed that is done in state."""
-    kept = [fact for fact in state if fact not in deed[4]]
-    return tuple(sorted(set([*kept, *deed[3]])))
+    return altered(state, deed[4], deed[3])
 
 
 def deed_to_do(task, state, name):
